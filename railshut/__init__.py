@@ -1,0 +1,1 @@
+"""railshut: toy railways exactly: rows that shut, layouts, and trains on them."""

@@ -1,0 +1,1 @@
+"""Tests of railshut, for python3 -m unittest."""

@@ -1,0 +1,47 @@
+"""The names and arguments of the interface, and the files in which they are defined."""
+
+import importlib
+import inspect
+import unittest
+
+FUNCTIONS = {
+    "poses": {
+        "step": ["direction", "many"], "moved": ["position", "other"], "turned": ["position", "eighths"],
+        "seen": ["pose", "other"], "laid": ["pose", "other"], "back": ["pose"],
+    },
+    "surds": {
+        "east": ["position"], "north": ["position"], "surd_added": ["one", "other"], "surd_less": ["one", "other"],
+        "surd_compared": ["one", "other"],
+    },
+    "rows": {
+        "lead": ["pose", "row"], "poses_along": ["row"], "shuts": ["row"], "backwards": ["row"], "mirrored": ["row"],
+        "turn": ["row"], "tally": ["row"],
+    },
+}
+
+ERRORS = {
+    "RailError": None, "BadRow": "reason", "BadLayout": "place", "BadPiece": "reason", "BadTrain": "reason",
+    "Collision": "pieces", "BadJournal": "place",
+}
+
+
+class Interface(unittest.TestCase):
+    def test_functions(self):
+        for module, functions in FUNCTIONS.items():
+            there = importlib.import_module(f"railshut.{module}")
+            for name, arguments in functions.items():
+                with self.subTest(module=module, name=name):
+                    function = getattr(there, name)
+                    self.assertTrue(inspect.isfunction(function))
+                    self.assertEqual(function.__module__, f"railshut.{module}")
+                    self.assertEqual(list(inspect.signature(function).parameters), arguments)
+
+    def test_errors(self):
+        there = importlib.import_module("railshut.errors")
+        for name, field in ERRORS.items():
+            with self.subTest(name=name):
+                error = getattr(there, name)
+                self.assertTrue(inspect.isclass(error))
+                self.assertEqual(error.__module__, "railshut.errors")
+                if field is not None:
+                    self.assertEqual(list(inspect.signature(error).parameters), [field])
