@@ -1,6 +1,7 @@
 """What the tests compare the program with: worked out here by other means than in the package."""
 
 import cmath
+import functools
 import itertools
 import math
 import random
@@ -26,7 +27,8 @@ POSES = tuple(position + (heading,) for position in POSITIONS for heading in ran
 SHUT_ROWS = (
     "LLLLLLLL", "RRRRRRRR", "LLLLSLLLLS", "HLLLLHLLLL", "LLLLHHLLLLS", "SRRSRRSRRSRR", "HLHLHLHLHLHLHLHL",
     "LLLLLLSSRRRRRRSS", "SLLLLLLS" * 4, "L" * 16, "L" * 40, "LLLL" + "S" * 16 + "LLLL" + "S" * 16,
-    "RRRR" + "H" * 16 + "RRRR" + "S" * 8, "LSLLSLLSLLSL", "LRLLLLLRLLLL", "LLLSSLSLLLSSLS",
+    "RRRR" + "H" * 16 + "RRRR" + "S" * 8, "LSLLSLLSLLSL", "LRLLLLLRLLLL", "LLLSSLSLLLSSLS", "LHLSLSHLLHLSLHSL",
+    "LHLSLSHLLHLSLSHL",
 )
 
 # Rows that do not: for their turn, for their tally, for both.
@@ -85,3 +87,44 @@ def some_rows(many, longest=40, seed=7):
     """Rows picked here and there, the same ones each time."""
     pick = random.Random(seed)
     return ["".join(pick.choice("HLRS") for _ in range(pick.randint(0, longest))) for _ in range(many)]
+
+
+@functools.lru_cache(maxsize=None)
+def shut_rows_by_trial():
+    """All rows of at most 10 letters that shut, each row tried, by their number of letters, then by the alphabet."""
+    places = {}
+    for heading, letter in itertools.product(range(8), "HLRS"):
+        at, eighths = drawn(letter, 0j, heading)
+        places[letter, heading] = (at, eighths % 8)
+    found = []
+    level = [("", 0j, 0)]
+    while level:
+        found.extend(row for row, at, heading in level if heading == 0 and abs(at) < 1e-6)
+        longer = []
+        for row, at, heading in level if len(level[0][0]) < 10 else ():
+            for letter in "HLRS":
+                away, turned = places[letter, heading]
+                longer.append((row + letter, at + away, turned))
+        level = longer
+    return tuple(found)
+
+
+def forms(row):
+    """The turned forms of a row: begun at each piece; as it is, run backwards, mirrored, both."""
+    exchanged = str.maketrans("LR", "RL")
+    for at in range(len(row)):
+        begun = row[at:] + row[:at]
+        yield from (begun, begun[::-1].translate(exchanged), begun.translate(exchanged), begun[::-1])
+
+
+def is_in_box(row, box):
+    """Whether there are enough pieces for the row, taken out of the box one by one."""
+    left = dict(zip("SHC", box))
+    for letter in row:
+        left["C" if letter in "LR" else letter] -= 1
+    return min(left.values()) >= 0
+
+
+def boxes_of(many):
+    """All boxes with just so many pieces in all."""
+    return [box for box in itertools.product(range(many + 1), repeat=3) if sum(box) == many]

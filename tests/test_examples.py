@@ -15,7 +15,33 @@ ROWS = """
 ((0, 0, 2, -2, 1), (2, 2, -2, 0, 7), True, 'SLRR', 1, (3, 0, 0, 0))
 """
 
-EXAMPLES = {"surds": SURDS, "rows": ROWS}
+ROWTEXT = """
+>>> from railshut.rowtext import read_short, short_text
+>>> short_text("LLLLSLLLLS"), read_short("H2R"), short_text("")
+('L4SL4S', 'HHR', '')
+"""
+
+LOOPS = """
+>>> from railshut.loops import least_word, same_loop, symmetry
+>>> least_word("SLLLLSLLLL"), same_loop("RRRRSRRRRS", "LLLLSLLLLS"), symmetry("LLLLSLLLLS"), symmetry("LLLLLLLL")
+('LLLLSLLLLS', True, 4, 16)
+"""
+
+CLOSURES = """
+>>> from railshut.closures import closure_count, shortest_closure
+>>> shortest_closure("LLLLLLL", (0, 0, 3)), shortest_closure("LLLLSLL", (1, 0, 3)), shortest_closure("LLLLS", (3, 0, 3)), closure_count("LLLLLL", (2, 0, 2))
+('L', 'LLS', None, 1)
+"""
+
+BOXES = """
+>>> from railshut.boxes import loops_of, shut_count
+>>> loops_of((0, 2, 8), 10), loops_of((2, 0, 8), 10), shut_count(7), shut_count(8)
+(('LLLLLLLL', 'HLLLLHLLLL'), ('LLLLLLLL', 'LLLLSLLLLS'), 0, 2)
+"""
+
+EXAMPLES = {
+    "surds": SURDS, "rows": ROWS, "rowtext": ROWTEXT, "loops": LOOPS, "closures": CLOSURES, "boxes": BOXES,
+}
 
 
 class Examples(unittest.TestCase):

@@ -17,6 +17,13 @@ FUNCTIONS = {
         "lead": ["pose", "row"], "poses_along": ["row"], "shuts": ["row"], "backwards": ["row"], "mirrored": ["row"],
         "turn": ["row"], "tally": ["row"],
     },
+    "rowtext": {"short_text": ["row"], "read_short": ["text"]},
+    "loops": {"least_word": ["row"], "same_loop": ["row", "other"], "symmetry": ["row"]},
+    "closures": {
+        "is_closure": ["row", "box", "other"], "shortest_closure": ["row", "box"], "closure_count": ["row", "box"],
+    },
+    "boxes": {"holds": ["box", "row"], "loops_of": ["box", "most"], "shut_count": ["many"]},
+    "pieces": {"ends_of": ["kind", "pose"]},
 }
 
 ERRORS = {
