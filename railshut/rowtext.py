@@ -1,10 +1,10 @@
 """Short texts of rows (y1)."""
 
 from railshut.errors import BadRow
+from railshut.numerals import DIGITS
 from railshut.rows import LETTERS
 
 LONGEST = 40
-DIGITS = "0123456789"
 
 
 def short_text(row):

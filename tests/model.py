@@ -15,6 +15,19 @@ STEPS = (
 # The steps of each letter as DOC.md tells them: (direction beyond the heading, how many), and the turn.
 LETTER_STEPS = {"S": (((0, 2),), 0), "H": (((0, 1),), 0), "L": (((2, 2), (7, 2)), 1), "R": (((1, 2), (6, 2)), 7)}
 
+HOME = (0, 0, 0, 0, 0)
+HOME_BACK = (0, 0, 0, 0, 4)
+
+# The ends of each kind of piece at the home pose.
+AT_HOME = {
+    "S": (HOME_BACK, (2, 0, 0, 0, 0)),
+    "H": (HOME_BACK, (1, 0, 0, 0, 0)),
+    "C": (HOME_BACK, (0, 0, 2, -2, 1)),
+    "P": (HOME_BACK, (2, 0, 0, 0, 0), (0, 0, 2, -2, 1)),
+    "Q": (HOME_BACK, (2, 0, 0, 0, 0), (0, 2, -2, 0, 7)),
+    "X": (HOME_BACK, (2, 0, 0, 0, 0), (1, 0, 1, 0, 2), (1, 0, -1, 0, 6)),
+}
+
 # Small, great and negative numbers for the positions of poses.
 POSITIONS = (
     (0, 0, 0, 0), (1, 2, 3, 4), (-5, 7, -11, 13), (2, 0, 0, -2), (-1, -1, -1, -1),
@@ -54,6 +67,15 @@ def lead_by_steps(pose, row):
             position = [have + many * new for have, new in zip(position, unit)]
         heading = (heading + more) % 8
     return tuple(position) + (heading,)
+
+
+def laid_by_steps(pose, end):
+    """An end that is seen from home, laid at a pose: each of its steps turned, one direction after the other."""
+    position = list(pose[:4])
+    for direction, many in enumerate(end[:4]):
+        for at, one in enumerate(STEPS[(direction + pose[4]) % 8]):
+            position[at] += many * one
+    return tuple(position) + ((end[4] + pose[4]) % 8,)
 
 
 def drawn(row, at=0j, eighths=0):

@@ -15,6 +15,21 @@ BUILTINS = (
     "OverflowError RuntimeError NotImplementedError AttributeError StopIteration NotImplemented"
 ).split()
 AT_THE_TOP = (ast.ImportFrom, ast.FunctionDef, ast.ClassDef, ast.Assign, ast.Expr)
+# Methods of builtin values are these, beside the package's own ones.
+METHODS = (
+    "append clear copy count endswith extend find get index insert isalnum isalpha isdigit islower isspace isupper items "
+    "join keys ljust lower lstrip partition pop remove replace reverse rfind rjust rpartition rsplit rstrip setdefault "
+    "split splitlines startswith strip update upper values zfill bit_length"
+).split()
+BARRED_NAMES = (
+    "register mro elements open input law version_info with_traceback add_note attrgetter breakpoint builtins compile "
+    "copyright credits delattr dir eval exec exit gc globals help id importlib license locals methodcaller os quit vars sys"
+).split()
+BARRED_BEGINNINGS = r"_(wall|pe_|dcw_|enum_|cm_|twin_re_|lay_|law_|stub_|sre|WallAttr|cold|outside|record|_)"
+BARRED_WORDS = (
+    r"\b(typing|typing_extensions|enum|Enum|IntEnum|StrEnum|Flag|IntFlag|Generic|Protocol|ABC|ABCMeta|namedtuple|NamedTuple"
+    r"|TypedDict|TYPE_CHECKING|abstractmethod)\b|dataclass|overload|contextmanager"
+)
 NOT_USED = (
     ast.AsyncFunctionDef, ast.Await, ast.AsyncFor, ast.AsyncWith, ast.Import, ast.TryStar, ast.Div, ast.MatMult,
 )
@@ -107,6 +122,32 @@ class Form(unittest.TestCase):
             inside = names_inside(tree)
             self.assertFalse(inside & set(imported_names(tree)), name)
             self.assertFalse((inside | set(at_the_top)) & (every - {"__init__"}), name)
+
+    def test_names_are_plain(self):
+        for name, tree in trees():
+            told = names_inside(tree) | set(names_at_the_top(tree) + imported_names(tree))
+            self.assertFalse(told & set(BARRED_NAMES), name)
+            for one in told - {"_"}:
+                self.assertRegex(one, "^(_?[A-Za-z][A-Za-z0-9_]*|__[a-z]+__)$", name)
+                if not one.endswith("__"):
+                    self.assertNotRegex(one, f"^{BARRED_BEGINNINGS}", name)
+            read = {node.id for node in ast.walk(tree) if isinstance(node, ast.Name) and isinstance(node.ctx, ast.Load)}
+            self.assertNotIn("_", read, name)
+
+    def test_words_and_signs_in_strings(self):
+        for path in FILES:
+            self.assertNotRegex(path.read_text("ascii"), BARRED_WORDS, path.name)
+        for name, tree in trees():
+            for node in ast.walk(tree):
+                if isinstance(node, ast.Constant) and isinstance(node.value, str):
+                    self.assertNotIn("%", node.value, (name, node.lineno))
+
+    def test_methods_are_the_told_ones(self):
+        own = {node.name for _, tree in trees() for node in ast.walk(tree) if isinstance(node, ast.FunctionDef)}
+        for name, tree in trees():
+            for node in ast.walk(tree):
+                if isinstance(node, ast.Call) and isinstance(node.func, ast.Attribute):
+                    self.assertIn(node.func.attr, own | set(METHODS), (name, node.lineno))
 
     def test_builtins_are_the_told_ones(self):
         every = set(dir(builtins)) - {"_"}

@@ -24,6 +24,21 @@ FUNCTIONS = {
     },
     "boxes": {"holds": ["box", "row"], "loops_of": ["box", "most"], "shut_count": ["many"]},
     "pieces": {"ends_of": ["kind", "pose"]},
+    "layouttext": {"layout_text": ["layout"], "parse_layout": ["text"]},
+    "samelayouts": {"word": ["layout"], "are_same": ["layout", "other"]},
+    "motions": {"motions": ["layout"], "alike": ["layout"]},
+    "joinings": {
+        "is_joining": ["layout", "first", "second", "box", "row"], "shortest_joining": ["layout", "first", "second", "box"],
+    },
+}
+
+CLASSES = {
+    "layouts": {
+        "Layout": {
+            "__init__": [], "place": ["kind", "pose"], "lay": ["pose", "row"], "remove": ["number"], "undo": [], "layout": [],
+            "ends": [], "joined": ["number", "end"], "open_ends": [], "islands": [], "is_shut": [],
+        },
+    },
 }
 
 ERRORS = {
@@ -42,6 +57,19 @@ class Interface(unittest.TestCase):
                     self.assertTrue(inspect.isfunction(function))
                     self.assertEqual(function.__module__, f"railshut.{module}")
                     self.assertEqual(list(inspect.signature(function).parameters), arguments)
+
+    def test_classes(self):
+        for module, classes in CLASSES.items():
+            there = importlib.import_module(f"railshut.{module}")
+            for name, methods in classes.items():
+                one = getattr(there, name)
+                self.assertTrue(inspect.isclass(one))
+                self.assertEqual(one.__module__, f"railshut.{module}")
+                for method, arguments in methods.items():
+                    with self.subTest(name=name, method=method):
+                        # It stands in the class itself, not only in a base class.
+                        self.assertTrue(inspect.isfunction(vars(one)[method]))
+                        self.assertEqual(list(inspect.signature(vars(one)[method]).parameters), ["self"] + arguments)
 
     def test_errors(self):
         there = importlib.import_module("railshut.errors")

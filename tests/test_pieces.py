@@ -2,28 +2,7 @@ import unittest
 
 from railshut.pieces import ends_of
 from railshut.rows import lead
-from tests.model import POSES, STEPS, plane
-
-HOME = (0, 0, 0, 0, 0)
-HOME_BACK = (0, 0, 0, 0, 4)
-
-AT_HOME = {
-    "S": (HOME_BACK, (2, 0, 0, 0, 0)),
-    "H": (HOME_BACK, (1, 0, 0, 0, 0)),
-    "C": (HOME_BACK, (0, 0, 2, -2, 1)),
-    "P": (HOME_BACK, (2, 0, 0, 0, 0), (0, 0, 2, -2, 1)),
-    "Q": (HOME_BACK, (2, 0, 0, 0, 0), (0, 2, -2, 0, 7)),
-    "X": (HOME_BACK, (2, 0, 0, 0, 0), (1, 0, 1, 0, 2), (1, 0, -1, 0, 6)),
-}
-
-
-def laid_by_steps(pose, end):
-    """An end of a piece at home, laid at a pose: each of its steps turned, one direction after the other."""
-    position = list(pose[:4])
-    for direction, many in enumerate(end[:4]):
-        for at, one in enumerate(STEPS[(direction + pose[4]) % 8]):
-            position[at] += many * one
-    return tuple(position) + ((end[4] + pose[4]) % 8,)
+from tests.model import AT_HOME, HOME, POSES, STEPS, laid_by_steps, plane
 
 
 class EndsOf(unittest.TestCase):
