@@ -75,9 +75,68 @@ JOININGS = """
 (6, 'LLS')
 """
 
+BEGINNING = """
+>>> from railshut.closures import shortest_closure
+>>> from railshut.layouts import Layout
+>>> from railshut.routes import shortest_route
+>>> from railshut.trains import cycle
+>>> shortest_closure("LLLLSLL", (1, 0, 3))
+'LLS'
+>>> floor = Layout()
+>>> floor.lay((0, 0, 0, 0, 0), "LLLLSLLLLS"), floor.is_shut()
+((0, 1, 2, 3, 4, 5, 6, 7, 8, 9), True)
+>>> cycle(floor.layout(), (), (0, 0, 1)), shortest_route(floor.layout(), (8, 0, 1), (0, 0, 1))
+((0, 10), ((8, 0, 1), (9, 0, 1), (0, 0, 1)))
+"""
+
+INVENTORIES = """
+>>> from railshut.inventories import fullest_packing, left_of, pieces_of_row
+>>> pieces_of_row("LLSR"), left_of((1, 2, 8), "LLS"), fullest_packing((3, 2, 17))
+((1, 0, 3, 0, 0, 0), (0, 2, 6), ('HLLLLHLLLL', 'LLLLSLLLLS'))
+"""
+
+EXTENTS = """
+>>> from railshut.extents import extent, fits_on, least_turn, size
+>>> straight = (("S", (0, 0, 0, 0, 2)),)
+>>> extent(straight), size(straight), fits_on(straight, 2, 1), least_turn(straight, 2, 1), least_turn((("S", (0, 0, 0, 0, 1)),), 1, 1)
+(((0, 0), (0, 0), (0, 0), (4, 0)), ((0, 0), (4, 0)), False, 2, None)
+"""
+
+TRAINS = """
+>>> from railshut.layouts import Layout
+>>> from railshut.trains import cycle, run_train, step_train
+>>> floor = Layout()
+>>> floor.place("P", (0, 0, 0, 0, 0)), floor.lay((0, 0, 2, -2, 1), "LLLLLLL")[-1], floor.place("S", (2, 0, 0, 0, 0))
+(0, 7, 8)
+>>> step_train(floor.layout(), (), (8, 1, 0)), run_train(floor.layout(), (), (8, 0, 1), 1), cycle(floor.layout(), (0,), (8, 1, 0))
+((0, 1, 0), None, (2, 8))
+"""
+
+# The lines of an example that tells of sides, too, which are about routes.
+ROUTES = """
+>>> from railshut.layouts import Layout
+>>> from railshut.routes import can_turn_round, reach, shortest_route
+>>> floor = Layout()
+>>> floor.lay((0, 0, 0, 0, 0), "LLLLLLLL")[-1], can_turn_round(floor.layout(), (0, 0, 1))
+(7, False)
+>>> shortest_route(floor.layout(), (0, 0, 1), (2, 0, 1)), reach(floor.layout(), (0, 0, 1))
+(((0, 0, 1), (1, 0, 1), (2, 0, 1)), (0, 1, 2, 3, 4, 5, 6, 7))
+"""
+
+PAPERTEXT = """
+>>> from railshut.papertext import paper_text, parse_paper
+>>> paper_text(("least", ((0, 0, 1), (1, 0, 1)), (((0, 0, 1), 1),))), parse_paper("never\\ntrain 3 1 0")
+('least\\nroute 0 0 1\\nroute 1 0 1\\nnumber 0 0 1 1', ('never', ((3, 1, 0),)))
+
+>>> from railshut.papertext import parse_paper
+>>> parse_paper("least\\nnumber 0 0 1 1")
+raises BadTrain
+"""
+
 EXAMPLES = {
-    "surds": SURDS, "rows": ROWS, "rowtext": ROWTEXT, "loops": LOOPS, "closures": CLOSURES, "boxes": BOXES,
+    "beginning": BEGINNING, "surds": SURDS, "rows": ROWS, "rowtext": ROWTEXT, "loops": LOOPS, "closures": CLOSURES, "boxes": BOXES,
     "layouts": LAYOUTS, "layouttext": LAYOUTTEXT, "motions": MOTIONS, "joinings": JOININGS,
+    "inventories": INVENTORIES, "extents": EXTENTS, "trains": TRAINS, "routes": ROUTES, "papertext": PAPERTEXT,
 }
 
 # What the document tells as "raises NAME", in the words that doctest knows; it does not look at the module here.

@@ -30,6 +30,23 @@ FUNCTIONS = {
     "joinings": {
         "is_joining": ["layout", "first", "second", "box", "row"], "shortest_joining": ["layout", "first", "second", "box"],
     },
+    "inventories": {
+        "pieces_of_layout": ["layout"], "pieces_of_row": ["row"], "left_of": ["box", "row"], "fullest_packing": ["box"],
+    },
+    "extents": {
+        "extent": ["layout"], "size": ["layout"], "fits_on": ["layout", "width", "height"],
+        "least_turn": ["layout", "width", "height"],
+    },
+    "trains": {
+        "trains_of": ["layout"], "facing_round": ["train"], "step_train": ["layout", "thrown", "train"],
+        "run_train": ["layout", "thrown", "train", "steps"], "cycle": ["layout", "thrown", "train"],
+    },
+    "routes": {
+        "free_steps": ["layout", "train"], "shortest_route": ["layout", "train", "goal"], "reach": ["layout", "train"],
+        "can_turn_round": ["layout", "train"], "judge_paper": ["layout", "train", "goal", "paper"],
+        "make_paper": ["layout", "train", "goal"],
+    },
+    "papertext": {"paper_text": ["paper"], "parse_paper": ["text"]},
 }
 
 CLASSES = {
