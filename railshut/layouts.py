@@ -3,6 +3,7 @@
 from railshut.errors import BadPiece
 from railshut.pieces import ends_of
 from railshut.poses import back
+from railshut.reaching import reached_from
 from railshut.rows import lead
 
 MOST_NUMBERS = 24
@@ -64,7 +65,7 @@ class Layout:
     def islands(self):
         """The sets of pieces that hang together, each ascending, ordered by their first pieces."""
         neighbours = _neighbours_in(self._pieces)
-        islands = [_island_of(neighbours, number) for number in neighbours]
+        islands = [tuple(sorted(reached_from(neighbours, number))) for number in neighbours]
         return tuple([island for number, island in zip(neighbours, islands) if island[0] == number])
 
     def is_shut(self):
@@ -128,15 +129,3 @@ def _neighbours_in(layout):
     for number, end in joints:
         neighbours[number].append(joints[(number, end)][0])
     return neighbours
-
-
-def _island_of(neighbours, number):
-    """All pieces that hang together with a piece, itself among them, ascending."""
-    found = {number: True}
-    waiting = [number]
-    while waiting:
-        for other in neighbours[waiting.pop()]:
-            if other not in found:
-                found[other] = True
-                waiting.append(other)
-    return tuple(sorted(found))

@@ -1,5 +1,6 @@
 """Routes, and papers that show that none is shorter or that there is none (h1 to h3)."""
 
+from railshut.reaching import reached_from
 from railshut.trains import facing_round, refuse_no_train, steps_table
 
 
@@ -15,12 +16,13 @@ def shortest_route(layout, train, goal):
 
 def reach(layout, train):
     """The pieces of all trains to which the train has a route, ascending."""
-    return tuple(sorted({other[0] for other in _reached_in(_table_for(layout, [train]), train)}))
+    reached = reached_from(_table_for(layout, [train]), train)
+    return tuple(sorted({other[0] for other in reached}))
 
 
 def can_turn_round(layout, train):
     """Whether the train has a route to itself facing round."""
-    return facing_round(train) in _reached_in(_table_for(layout, [train]), train)
+    return facing_round(train) in reached_from(_table_for(layout, [train]), train)
 
 
 def judge_paper(layout, train, goal, paper):
@@ -40,7 +42,7 @@ def make_paper(layout, train, goal):
     table = _table_for(layout, [train, goal])
     route = _shortest_in(table, train, goal)
     if route is None:
-        reached = _reached_in(table, train)
+        reached = reached_from(table, train)
         return ("never", tuple([other for other in table if other in reached]))
     most = len(route) - 1
     away = _steps_to(table, goal)
@@ -79,18 +81,6 @@ def _steps_to(table, goal):
         for train in new:
             away[train] = many
     return away
-
-
-def _reached_in(table, train):
-    """All trains to which the train has a route, each one a key."""
-    reached = {train: True}
-    waiting = [train]
-    while waiting:
-        for other in table[waiting.pop()]:
-            if other not in reached:
-                reached[other] = True
-                waiting.append(other)
-    return reached
 
 
 def _is_tuple(worth):

@@ -3,16 +3,13 @@
 from railshut.errors import BadTrain
 from railshut.layouts import joints_in
 
-THERE_AND_BACK = ((0, 1), (1, 0))
-STRAIGHT_OR_BRANCH = ((0, 1), (0, 2), (1, 0), (2, 0))
-
 # For each kind the ends by which a train can come in and leave, in order.
 PASSES = {
-    "S": THERE_AND_BACK,
-    "H": THERE_AND_BACK,
-    "C": THERE_AND_BACK,
-    "P": STRAIGHT_OR_BRANCH,
-    "Q": STRAIGHT_OR_BRANCH,
+    "S": ((0, 1), (1, 0)),
+    "H": ((0, 1), (1, 0)),
+    "C": ((0, 1), (1, 0)),
+    "P": ((0, 1), (0, 2), (1, 0), (2, 0)),
+    "Q": ((0, 1), (0, 2), (1, 0), (2, 0)),
     "X": ((0, 1), (1, 0), (2, 3), (3, 2)),
 }
 

@@ -100,6 +100,12 @@ class Refused(Case):
                     self.refuse("H40,0,0,0,0;;C60,0,0,0,0;" + part + ";", 3)
                     self.refuse(";" + part + ";H40,0,0,0,0;;S;", 1)
 
+    def test_each_number_just_beyond_its_limits(self):
+        for at, beyond in itertools.product(range(5), (-1000, 1000)):
+            numbers = ["0"] * 5
+            numbers[at] = str(beyond)
+            self.refuse("S" + ",".join(numbers) + ";", 0)
+
     def test_what_stands_behind_the_last_semicolon(self):
         for text, place in (
             ("S0,0,0,0,0", 0), ("S0,0,0,0,0;S2,0,0,0,0", 1), (";;S2,0,0,0,0", 2), (";\n", 1), ("; ", 1), (";;;X", 3), ("0", 0),

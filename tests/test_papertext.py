@@ -23,7 +23,7 @@ TEXTS = (
 WRONG_TRAINS = (
     "WORD", "WORD ", "WORD 7", "WORD 7 1", "WORD 7 1 ", "WORD 07 1 0", "WORD 7 01 0", "WORD 7 1 00", "WORD  7 1 0", "WORD 7  1 0", "WORD 7 1  0",
     "WORD 7 1 0 ", " WORD 7 1 0", "WORD\t7 1 0", "WORD 7\t1 0", "WORD 7,1,0", "WORD 7 1 0\t", "WORD 7 1 0\r", "WORD 24 1 0", "WORD 7 4 0", "WORD 7 1 4",
-    "WORD 100 1 0", "WORD -1 1 0", "WORD 7 -1 0", "WORD 7 1 -0", "WORD -0 1 0", "WORD +7 1 0", "WORD 7 1 +0", "WORD 7 1.0 0", "WORD 7 1 x", "WORD x 1 0",
+    "WORD 100 1 0", "WORD -1 1 0", "WORD 7 -1 0", "WORD 7 1 -1", "WORD 7 1 -0", "WORD -0 1 0", "WORD +7 1 0", "WORD 7 1 +0", "WORD 7 1.0 0", "WORD 7 1 x", "WORD x 1 0",
     "WORD 0x7 1 0", "WORD 7 1_0 0", "WORD \u0667 1 0", "WORD \u00b2 1 0", "WORD 7 \uff11 0", "WORD7 1 0", "7 1 0", "", " ", "WORDs 7 1 0", "WORD:7 1 0",
     "WORD " + "9" * 5000 + " 1 0", "WORD 7 1 0;", "WORD (7, 1, 0)", "WORD 7 1 None", "WORD\u00a07 1 0", "WORD 7 1 0\u0000",
 )

@@ -207,6 +207,17 @@ class RefusedPapers(unittest.TestCase):
             self.with_route(route[-1:]), self.with_route(((8, 0, 1),) + route), self.with_route(route * 2),
         )
 
+    def test_a_route_that_ends_or_begins_elsewhere_with_numbers_that_fit(self):
+        for many in range(1, len(self.route)):
+            numbers = tuple((train, min(number, many - 1)) for train, number in self.numbers if many > 1)
+            self.refuse(("least", self.route[:many], numbers))
+            self.assertIs(judge_paper(self.LAYOUT, self.TRAIN, self.GOAL, ("least", self.route[many:], self.numbers)), False)
+        behind = ((8, 0, 1), (0, 1, 0)) + self.route[2:]
+        self.refuse(("least", behind, self.numbers), ("least", self.route[1:], self.numbers))
+        # Where there is such a route for another train, the paper is about that one.
+        self.assertIs(judge_paper(self.LAYOUT, (0, 1, 0), self.GOAL, ("least", self.route[1:], tuple(
+            (train, min(number, 7)) for train, number in self.numbers))), True)
+
     def test_a_route_that_goes_round_once_more(self):
         route = self.route + ((0, 2, 0),) + tuple((at, 1, 0) for at in range(7, 0, -1))
         self.refuse(self.with_route(route))
