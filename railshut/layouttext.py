@@ -2,11 +2,11 @@
 
 from railshut.errors import BadLayout
 from railshut.layouts import reason_against
-from railshut.numerals import read_number
+from railshut.numerals import read_numbers
 from railshut.pieces import ENDS_AHEAD
 
 # The least and the greatest numbers of a pose in a text.
-LIMITS = ((-999, 999), (-999, 999), (-999, 999), (-999, 999), (0, 7))
+POSE_LIMITS = ((-999, 999), (-999, 999), (-999, 999), (-999, 999), (0, 7))
 
 
 def layout_text(layout):
@@ -40,10 +40,7 @@ def _pieces_of(place, part):
     """The one piece that a part of the text tells, or None for it, in a list."""
     if part == "":
         return [None]
-    numbers = part[1:].split(",")
-    if part[0] not in ENDS_AHEAD or len(numbers) != len(LIMITS):
-        raise BadLayout(place)
-    pose = tuple([read_number(number, least, greatest) for number, (least, greatest) in zip(numbers, LIMITS)])
-    if None in pose:
+    pose = read_numbers(part[1:].split(","), POSE_LIMITS)
+    if part[0] not in ENDS_AHEAD or pose is None:
         raise BadLayout(place)
     return [(part[0], pose)]

@@ -15,3 +15,11 @@ def read_number(text, least, greatest):
     if str(number) != text or not least <= number <= greatest:
         return None
     return number
+
+
+def read_numbers(words, limits):
+    """The integers that the words write, each within its limits; None if one is wrong, or there are too many or few."""
+    if len(words) != len(limits):
+        return None
+    numbers = tuple([read_number(word, least, greatest) for word, (least, greatest) in zip(words, limits)])
+    return None if None in numbers else numbers

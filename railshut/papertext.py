@@ -1,7 +1,7 @@
 """Texts of papers about routes (h4, h5)."""
 
 from railshut.errors import BadTrain
-from railshut.numerals import read_number
+from railshut.numerals import read_numbers
 
 # For each word of a line, the least and the greatest of each number behind it.
 LIMITS = {
@@ -50,17 +50,9 @@ def _read_lines(lines, first, word):
     """The numbers of the lines from the first one on, all of which have to have the word ahead."""
     read = []
     for at in range(first, len(lines)):
-        numbers = _numbers_of(lines[at], word)
-        if None in numbers:
+        parts = lines[at].split(" ")
+        numbers = read_numbers(parts[1:], LIMITS[word])
+        if parts[0] != word or numbers is None:
             raise BadTrain(f"line {at + 1}")
         read.append(numbers)
     return read
-
-
-def _numbers_of(line, word):
-    """The numbers behind the word in a line; None stands for what is wrong with it."""
-    limits = LIMITS[word]
-    parts = line.split(" ")
-    if parts[0] != word or len(parts) != 1 + len(limits):
-        return (None,)
-    return tuple([read_number(part, least, greatest) for part, (least, greatest) in zip(parts[1:], limits)])

@@ -1,7 +1,8 @@
 """Routes, and papers that show that none is shorter or that there is none (h1 to h3)."""
 
 from railshut.reaching import reached_from
-from railshut.trains import facing_round, refuse_no_train, steps_table
+from railshut.shapes import are_trains, is_integer, is_train, is_tuple
+from railshut.trains import facing_round, steps_table, table_for
 
 
 def free_steps(layout, train):
@@ -11,24 +12,24 @@ def free_steps(layout, train):
 
 def shortest_route(layout, train, goal):
     """The route with the fewest trains, the one by the ends 1 of several; None if there is none."""
-    return _shortest_in(_table_for(layout, [train, goal]), train, goal)
+    return _shortest_in(table_for(layout, [train, goal]), train, goal)
 
 
 def reach(layout, train):
     """The pieces of all trains to which the train has a route, ascending."""
-    reached = reached_from(_table_for(layout, [train]), train)
+    reached = reached_from(table_for(layout, [train]), train)
     return tuple(sorted({other[0] for other in reached}))
 
 
 def can_turn_round(layout, train):
     """Whether the train has a route to itself facing round."""
-    return facing_round(train) in reached_from(_table_for(layout, [train]), train)
+    return facing_round(train) in reached_from(table_for(layout, [train]), train)
 
 
 def judge_paper(layout, train, goal, paper):
     """Whether the paper about the train and the goal is taken, whatever it is."""
     table = steps_table(layout)
-    if not _are_trains(table, (train, goal)):
+    if not are_trains(table, (train, goal)):
         return False
     if _is_told(paper, "least", 3):
         return _is_route(table, train, goal, paper[1]) and _says_least(table, goal, paper[1], paper[2])
@@ -39,7 +40,7 @@ def judge_paper(layout, train, goal, paper):
 
 def make_paper(layout, train, goal):
     """A paper about the train and the goal that is taken."""
-    table = _table_for(layout, [train, goal])
+    table = table_for(layout, [train, goal])
     route = _shortest_in(table, train, goal)
     if route is None:
         reached = reached_from(table, train)
@@ -49,14 +50,6 @@ def make_paper(layout, train, goal):
     # A train from which the goal cannot be come to must not have less than the trains that can step to it.
     numbers = [(other, min(most, away.get(other, most))) for other in table]
     return ("least", route, tuple([pair for pair in numbers if pair[1] > 0]))
-
-
-def _table_for(layout, trains):
-    """The steps of all trains of the layout; refused if one of those told is none of them."""
-    table = steps_table(layout)
-    for train in trains:
-        refuse_no_train(table, train)
-    return table
 
 
 def _shortest_in(table, train, goal):
@@ -83,43 +76,25 @@ def _steps_to(table, goal):
     return away
 
 
-def _is_tuple(worth):
-    return type(worth) == tuple
-
-
-def _is_integer(worth):
-    # True and False are equal to 1 and 0, but they are no integers.
-    return type(worth) == int
-
-
 def _is_told(paper, first, many):
     """Whether the paper is a tuple of so many, with this text ahead."""
-    if not _is_tuple(paper) or len(paper) != many:
+    if not is_tuple(paper) or len(paper) != many:
         return False
     head = paper[0]
     # Whatever is no text is not compared: it could be something that cannot be.
     return type(head) == str and head == first
 
 
-def _is_train(table, worth):
-    return _is_tuple(worth) and all([_is_integer(number) for number in worth]) and worth in table
-
-
-def _are_trains(table, worth):
-    """Whether it is a tuple of trains of the layout."""
-    return _is_tuple(worth) and all([_is_train(table, train) for train in worth])
-
-
 def _are_pairs(table, worth):
     """Whether it is a tuple of pairs of a train of the layout and an integer from 1 on."""
-    if not _is_tuple(worth) or not all([_is_tuple(pair) and len(pair) == 2 for pair in worth]):
+    if not is_tuple(worth) or not all([is_tuple(pair) and len(pair) == 2 for pair in worth]):
         return False
-    return all([_is_train(table, train) and _is_integer(number) and number >= 1 for train, number in worth])
+    return all([is_train(table, train) and is_integer(number) and number >= 1 for train, number in worth])
 
 
 def _is_route(table, train, goal, route):
     """Whether it is a route from the train to the goal."""
-    if not _are_trains(table, route) or route[:1] != (train,) or route[-1:] != (goal,):
+    if not are_trains(table, route) or route[:1] != (train,) or route[-1:] != (goal,):
         return False
     return all([ahead in table[here] for here, ahead in zip(route, route[1:])])
 
@@ -137,7 +112,7 @@ def _says_least(table, goal, route, pairs):
 
 def _says_never(table, train, goal, trains):
     """Whether the trains say that there is no route from the train to the goal."""
-    if not _are_trains(table, trains) or train not in trains or goal in trains:
+    if not are_trains(table, trains) or train not in trains or goal in trains:
         return False
     told = {here: True for here in trains}
     return all([ahead in told for here in told for ahead in table[here]])

@@ -35,7 +35,7 @@ def step_train(layout, thrown, train):
 def run_train(layout, thrown, train, steps):
     """The train behind so many steps; None if it runs off on the way."""
     _refuse_wrong(layout, thrown, train)
-    way, again = _way(steps_table(layout), thrown, train)
+    way, again = way_in(steps_table(layout), thrown, train)
     if steps < len(way):
         return way[steps]
     if again is None:
@@ -47,11 +47,16 @@ def run_train(layout, thrown, train, steps):
 def cycle(layout, thrown, train):
     """(start, length) of the cycle of the train; None if it runs off some time."""
     _refuse_wrong(layout, thrown, train)
-    way, again = _way(steps_table(layout), thrown, train)
+    way, again = way_in(steps_table(layout), thrown, train)
     if again is None:
         return None
     start = way.index(again)
     return (start, len(way) - start)
+
+
+def turnouts_in(layout):
+    """The numbers of all turnouts of the layout, ascending."""
+    return [number for number, piece in enumerate(layout) if piece is not None and piece[0] in "PQ"]
 
 
 def steps_table(layout):
@@ -79,10 +84,27 @@ def step_in(table, thrown, train):
     return steps[-1] if steps[0][0] in thrown else steps[0]
 
 
+def way_in(table, thrown, train):
+    """The trains that the train comes to be, all unlike; and which of them it then is again, None if it runs off."""
+    way = {}
+    here = train
+    while here is not None and here not in way:
+        way[here] = True
+        here = step_in(table, thrown, here)
+    return list(way), here
+
+
+def table_for(layout, trains):
+    """The steps of all trains of the layout; refused if one of those told is none of them."""
+    table = steps_table(layout)
+    for train in trains:
+        refuse_no_train(table, train)
+    return table
+
+
 def refuse_no_turnouts(layout, thrown):
     """Refuses what is not an ascending tuple of turnouts of the layout."""
-    turnouts = [number for number, piece in enumerate(layout) if piece is not None and piece[0] in "PQ"]
-    if thrown != tuple([number for number in turnouts if number in thrown]):
+    if thrown != tuple([number for number in turnouts_in(layout) if number in thrown]):
         raise BadTrain("no turnout")
 
 
@@ -95,13 +117,3 @@ def refuse_no_train(table, train):
 def _refuse_wrong(layout, thrown, train):
     refuse_no_turnouts(layout, thrown)
     refuse_no_train(trains_of(layout), train)
-
-
-def _way(table, thrown, train):
-    """The trains that the train comes to be, all unlike; and which of them it then is again, None if it runs off."""
-    way = []
-    here = train
-    while here is not None and here not in way:
-        way.append(here)
-        here = step_in(table, thrown, here)
-    return way, here

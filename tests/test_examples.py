@@ -112,17 +112,6 @@ TRAINS = """
 ((0, 1, 0), None, (2, 8))
 """
 
-# The lines of an example that tells of sides, too, which are about routes.
-ROUTES = """
->>> from railshut.layouts import Layout
->>> from railshut.routes import can_turn_round, reach, shortest_route
->>> floor = Layout()
->>> floor.lay((0, 0, 0, 0, 0), "LLLLLLLL")[-1], can_turn_round(floor.layout(), (0, 0, 1))
-(7, False)
->>> shortest_route(floor.layout(), (0, 0, 1), (2, 0, 1)), reach(floor.layout(), (0, 0, 1))
-(((0, 0, 1), (1, 0, 1), (2, 0, 1)), (0, 1, 2, 3, 4, 5, 6, 7))
-"""
-
 PAPERTEXT = """
 >>> from railshut.papertext import paper_text, parse_paper
 >>> paper_text(("least", ((0, 0, 1), (1, 0, 1)), (((0, 0, 1), 1),))), parse_paper("never\\ntrain 3 1 0")
@@ -133,10 +122,40 @@ PAPERTEXT = """
 raises BadTrain
 """
 
+SIDES = """
+>>> from railshut.layouts import Layout
+>>> from railshut.routes import can_turn_round, reach, shortest_route
+>>> from railshut.sides import make_sides
+>>> floor = Layout()
+>>> floor.lay((0, 0, 0, 0, 0), "LLLLLLLL")[-1], make_sides(floor.layout())[:2], can_turn_round(floor.layout(), (0, 0, 1))
+(7, ((0, 0, 1), (1, 0, 1)), False)
+>>> shortest_route(floor.layout(), (0, 0, 1), (2, 0, 1)), reach(floor.layout(), (0, 0, 1))
+(((0, 0, 1), (1, 0, 1), (2, 0, 1)), (0, 1, 2, 3, 4, 5, 6, 7))
+"""
+
+TOGGLES = """
+>>> from railshut.layouts import Layout
+>>> from railshut.toggles import leading, least_toggles
+>>> floor = Layout()
+>>> floor.place("P", (0, 0, 0, 0, 0)), floor.lay((0, 0, 2, -2, 1), "LLLLLLL")[-1], floor.place("S", (2, 0, 0, 0, 0))
+(0, 7, 8)
+>>> leading(floor.layout(), (), (7, 0, 1), (1, 0, 1)), least_toggles(floor.layout(), (0,), (7, 0, 1), (8, 0, 1)), least_toggles(floor.layout(), (), (8, 1, 0), (8, 0, 1))
+((0, 'step', 'step'), 1, None)
+"""
+
+SURVEYS = """
+>>> from railshut.layouts import Layout
+>>> from railshut.surveys import survey
+>>> floor = Layout()
+>>> floor.lay((0, 0, 0, 0, 0), "LLLLLLLL")[-1], survey(floor.layout())
+(7, (((), 0, (8, 8)),))
+"""
+
 EXAMPLES = {
     "beginning": BEGINNING, "surds": SURDS, "rows": ROWS, "rowtext": ROWTEXT, "loops": LOOPS, "closures": CLOSURES, "boxes": BOXES,
     "layouts": LAYOUTS, "layouttext": LAYOUTTEXT, "motions": MOTIONS, "joinings": JOININGS,
-    "inventories": INVENTORIES, "extents": EXTENTS, "trains": TRAINS, "routes": ROUTES, "papertext": PAPERTEXT,
+    "inventories": INVENTORIES, "extents": EXTENTS, "trains": TRAINS, "papertext": PAPERTEXT,
+    "sides": SIDES, "toggles": TOGGLES, "surveys": SURVEYS,
 }
 
 # What the document tells as "raises NAME", in the words that doctest knows; it does not look at the module here.

@@ -47,6 +47,13 @@ FUNCTIONS = {
         "make_paper": ["layout", "train", "goal"],
     },
     "papertext": {"paper_text": ["paper"], "parse_paper": ["text"]},
+    "sides": {"judge_sides": ["layout", "paper"], "make_sides": ["layout"]},
+    "settings": {"least_setting": ["layout", "train", "goal"]},
+    "toggles": {
+        "least_toggles": ["layout", "thrown", "train", "goal"], "leading": ["layout", "thrown", "train", "goal"],
+    },
+    "surveys": {"survey": ["layout"]},
+    "meetings": {"first_meeting": ["layout", "thrown", "one", "other", "steps"]},
 }
 
 CLASSES = {

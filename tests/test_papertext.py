@@ -4,7 +4,8 @@ import unittest
 from railshut.errors import BadTrain
 from railshut.papertext import paper_text, parse_paper
 from railshut.routes import make_paper
-from tests.test_routes import SMALL, pairs_of_trains
+from tests.test_routes import SMALL
+from tests.tracks import some_pairs
 
 TEXTS = (
     ("never", ("never", ())),
@@ -49,7 +50,7 @@ class ThereAndBack(Case):
 
     def test_made_papers(self):
         for layout in SMALL:
-            for train, goal in pairs_of_trains(layout, 30):
+            for train, goal in some_pairs(layout, 30):
                 paper = make_paper(layout, train, goal)
                 text = paper_text(paper)
                 self.assertEqual(parse_paper(text), paper)

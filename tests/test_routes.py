@@ -1,5 +1,3 @@
-import itertools
-import random
 import unittest
 
 from railshut.errors import BadTrain
@@ -7,17 +5,12 @@ from railshut.routes import can_turn_round, free_steps, judge_paper, make_paper,
 from tests.floors import along, some_layouts
 from tests.model import HOME
 from tests.tracks import (
-    BALLOON, DUMBBELL, EIGHT, FAR_BALLOON, RING, ROUND, SIDING, TRACKS, TWO_SIDINGS, all_trains, free, shortest_by_trial, trains_reached,
+    BALLOON, DUMBBELL, EIGHT, FAR_BALLOON, RING, ROUND, SIDING, TRACKS, TWO_SIDINGS, all_trains, free, shortest_by_trial,
+    some_pairs, trains_reached,
 )
 
 SMALL = (RING, ROUND, BALLOON, SIDING, EIGHT, FAR_BALLOON, DUMBBELL) + tuple(some_layouts(12, seed=31))
 NO_TRAINS = ((0, 1, 2), (0, 0, 3), (1, 1, 1), (10, 0, 1), (-1, 0, 1), (0, 0, 0))
-
-
-def pairs_of_trains(layout, many):
-    """Some pairs of trains, the same ones each time."""
-    pairs = list(itertools.product(all_trains(layout), repeat=2))
-    return pairs if len(pairs) <= many else random.Random(len(pairs)).sample(pairs, many)
 
 
 class FreeSteps(unittest.TestCase):
@@ -77,11 +70,11 @@ class ShortestRoute(unittest.TestCase):
 
     def test_beside_a_trial_of_all_routes(self):
         for layout in SMALL:
-            for train, goal in pairs_of_trains(layout, 120):
+            for train, goal in some_pairs(layout, 120):
                 self.assertEqual(shortest_route(layout, train, goal), shortest_by_trial(layout, train, goal), (layout, train, goal))
 
     def test_on_two_sidings(self):
-        for train, goal in pairs_of_trains(TWO_SIDINGS, 60) + [((0, 0, 1), (19, 2, 0)), ((0, 0, 2), (19, 1, 0))]:
+        for train, goal in some_pairs(TWO_SIDINGS, 60) + [((0, 0, 1), (19, 2, 0)), ((0, 0, 2), (19, 1, 0))]:
             self.assertEqual(shortest_route(TWO_SIDINGS, train, goal), shortest_by_trial(TWO_SIDINGS, train, goal))
 
 
@@ -122,7 +115,7 @@ class Papers(unittest.TestCase):
     def test_made_ones_are_taken(self):
         kinds = set()
         for layout in SMALL + (TWO_SIDINGS,):
-            for train, goal in pairs_of_trains(layout, 80):
+            for train, goal in some_pairs(layout, 80):
                 paper = make_paper(layout, train, goal)
                 kinds.add(paper[0])
                 self.assertIs(judge_paper(layout, train, goal, paper), True, paper)
@@ -313,7 +306,7 @@ class RefusedPapers(unittest.TestCase):
         self.assertIs(judge_paper(ROUND, train, goal, ("never", trains)), True)
 
     def test_never_where_there_is_a_route(self):
-        for train, goal in pairs_of_trains(SIDING, 200):
+        for train, goal in some_pairs(SIDING, 200):
             if shortest_by_trial(SIDING, train, goal):
                 for trains in (trains_reached(SIDING, train), all_trains(SIDING), [train]):
                     trains = tuple(one for one in trains if one != goal)

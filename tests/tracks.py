@@ -1,6 +1,8 @@
 """Layouts with turnouts and crossings, and trains on them, stepped by looking for the end that lies at the joint."""
 
+import functools
 import itertools
+import random
 
 from tests.floors import all_ends, along, facing, piece_ends
 from tests.model import HOME, lead_by_steps
@@ -29,6 +31,11 @@ def siding(pose):
 SIDING = siding(HOME)[0]
 TWO_SIDINGS = SIDING + siding(siding(HOME)[1])[0]
 
+# A siding whose way straight on has more pieces than the other one, and a straight behind it.
+UNEVEN = (("P", HOME),) + along((2, 0, 0, 0, 0), "HHRLLR") + along((0, 0, 2, -2, 1), "RSSSR") + (
+    ("Q", facing(lead_by_steps(HOME, "SSRLLRS"))), ("S", lead_by_steps(HOME, "SSRLLRS")),
+)
+
 # One crossing and two loops.
 EIGHT = (("X", HOME),) + along((2, 0, 0, 0, 0), "HLLLLLLH") + along((1, 0, -1, 0, 6), "HRRRRRRH")
 
@@ -44,17 +51,43 @@ def pear(pose):
 # A balloon at each end of a straight.
 DUMBBELL = pear(HOME) + (("S", (-2, 0, 0, 0, 0)),) + pear((-2, 0, 0, 0, 4))
 
+# Three turnouts, each joined to the two others, and a straight at the end 0 of each.
+BARE_WYE = (("P", HOME),) + along((0, 0, 2, -2, 1), "LL") + (("Q", (0, 2, 2, 2, 7)),) + along((2, 0, 2, 2, 6), "LS") + (
+    ("Q", (4, 0, 0, 0, 4)),
+)
+WYE = BARE_WYE + tuple(("S", facing(BARE_WYE[number][1])) for number in (0, 3, 6))
+
+# A siding in an oval: 24 pieces.
+OVAL = SIDING + along(siding(HOME)[1], "LLLLSRLLRSLLLL")
+
+
+def ladder(rungs):
+    """A row of turnouts and one beside it, joined by the branches, so that there are many ways across; 2 * rungs + 3 pieces."""
+    beside = lead_by_steps(HOME, "LR")
+    on = [(2 * many, 0, 0, 0, 0) for many in range(-1, rungs + 1)]
+    across = [(beside[0] + 2 * many,) + beside[1:] for many in range(rungs)]
+    mains, merges = tuple(("P", pose) for pose in on[1:-1]), tuple(("P", facing(pose)) for pose in across[1:])
+    return mains + along(lead_by_steps(HOME, "L"), "R") + merges + (("S", across[-1]), ("S", on[-1]), ("S", on[0]))
+
+
+def ring_of_turnouts(many, pose=HOME):
+    """A ring, the first pieces of which are turnouts whose branches go round."""
+    ring = along(pose, "LLLLLLLL")
+    return tuple(("P", there) for _, there in ring[:many]) + ring[many:]
+
+
 TRACKS = {
     "ring": RING, "round": ROUND, "balloon": BALLOON, "siding": SIDING, "two sidings": TWO_SIDINGS, "eight": EIGHT,
-    "dumbbell": DUMBBELL,
+    "dumbbell": DUMBBELL, "oval": OVAL, "wye": WYE, "uneven": UNEVEN, "ladder": ladder(3), "ring of turnouts": ring_of_turnouts(4),
     "with gaps": FAR_BALLOON, "a row": along((4, -1, 3, 0, 5), "SLRH"), "nothing": (), "only gaps": (None, None),
 }
 
 
+@functools.lru_cache(maxsize=None)
 def all_trains(layout):
-    return [
+    return tuple(
         (number,) + ends for number, piece in enumerate(layout) if piece is not None for ends in PASSES[piece[0]]
-    ]
+    )
 
 
 def turnouts(layout):
@@ -67,12 +100,13 @@ def choices(layout):
     return [thrown for many in range(len(numbers) + 1) for thrown in itertools.combinations(numbers, many)]
 
 
+@functools.lru_cache(maxsize=None)
 def free(layout, train):
     """The trains that a step with any turnouts thrown can make of it, the end 1 first."""
     number, _, leaving = train
     joint = facing(piece_ends(*layout[number])[leaving])
     there = [(other, end) for other, end, pose in all_ends(layout) if pose == joint]
-    return [other for other in all_trains(layout) if other[:2] in there]
+    return tuple(other for other in all_trains(layout) if other[:2] in there)
 
 
 def stepped(layout, thrown, train):
@@ -108,3 +142,24 @@ def trains_reached(layout, train):
     for here in reached:
         reached.extend(ahead for ahead in free(layout, here) if ahead not in reached)
     return reached
+
+
+def some_pairs(layout, many):
+    """Some pairs of trains, the same ones each time."""
+    pairs = list(itertools.product(all_trains(layout), repeat=2))
+    return pairs if len(pairs) <= many else random.Random(len(pairs)).sample(pairs, many)
+
+
+def faced(train):
+    piece, entry, leaving = train
+    return (piece, leaving, entry)
+
+
+def sets_that_hang_together(layout):
+    """Sets of trains: those that share a free step are put together until none is left."""
+    sets = [{train} for train in all_trains(layout)]
+    for train in all_trains(layout):
+        for ahead in free(layout, train):
+            together = [one for one in sets if train in one or ahead in one]
+            sets = [one for one in sets if one not in together] + [set().union(*together)]
+    return sets
