@@ -151,11 +151,53 @@ SURVEYS = """
 (7, (((), 0, (8, 8)),))
 """
 
+EXCHANGES = """
+>>> from railshut.exchanges import exchange_plan, exchange_steps
+>>> from railshut.layouts import Layout
+>>> floor = Layout()
+>>> floor.lay((0, 0, 0, 0, 0), "LLLLLLLL")[-1]
+7
+>>> exchange_steps(floor.layout(), (0, 0, 1), (4, 0, 1)), exchange_plan(floor.layout(), (0, 0, 1), (4, 0, 1))[:3]
+(8, ((0, 1), (0, 2), (0, 3)))
+"""
+
+RUNS = """
+>>> from railshut.layouts import Layout
+>>> from railshut.runs import Run
+>>> floor = Layout()
+>>> floor.place("P", (0, 0, 0, 0, 0)), floor.lay((2, 0, 0, 0, 0), "RSSLLLSSLLSLSS")[-1], floor.place("S", (-2, 0, 0, 0, 0))
+(0, 14, 15)
+>>> run = Run(floor.layout())
+>>> run.add((15, 0, 1)), run.add((14, 1, 0)), run.forecast(2), len(run.forecast(99)), run.tick(), run.clock()
+(0, 1, ((15, 14), (0, 13), (1, 12)), 8, 2, 1)
+"""
+
+BLOCKS = """
+>>> from railshut.blocks import BlockRun
+>>> from railshut.layouts import Layout
+>>> floor = Layout()
+>>> floor.lay((0, 0, 0, 0, 0), "LLLLLLLL")[-1]
+7
+>>> run = BlockRun(floor.layout(), ((0, 1), (2, 3)))
+>>> run.add((0, 0, 1)), run.add((2, 0, 1)), run.tick(), run.tick(), run.trains(), run.is_stuck()
+(0, 1, 2, 1, ((1, 0, 1), (4, 0, 1)), False)
+"""
+
+FLOORLOGS = """
+>>> from railshut.floorlogs import FloorLog, replay_floor
+>>> floor = FloorLog()
+>>> floor.place("P", (0, 0, 0, 0, 0)), floor.lay((2, 0, 0, 0, 0), "SSL"), floor.remove(2), floor.undo()
+(0, (1, 2, 3), None, True)
+>>> floor.journal(), replay_floor(floor.journal()).layout() == floor.layout()
+('place P 0 0 0 0 0\\nlay 2 0 0 0 0 S2L\\nremove 2\\nundo\\n', True)
+"""
+
 EXAMPLES = {
     "beginning": BEGINNING, "surds": SURDS, "rows": ROWS, "rowtext": ROWTEXT, "loops": LOOPS, "closures": CLOSURES, "boxes": BOXES,
     "layouts": LAYOUTS, "layouttext": LAYOUTTEXT, "motions": MOTIONS, "joinings": JOININGS,
     "inventories": INVENTORIES, "extents": EXTENTS, "trains": TRAINS, "papertext": PAPERTEXT,
-    "sides": SIDES, "toggles": TOGGLES, "surveys": SURVEYS,
+    "sides": SIDES, "toggles": TOGGLES, "surveys": SURVEYS, "exchanges": EXCHANGES, "runs": RUNS, "blocks": BLOCKS,
+    "floorlogs": FLOORLOGS,
 }
 
 # What the document tells as "raises NAME", in the words that doctest knows; it does not look at the module here.

@@ -54,6 +54,10 @@ FUNCTIONS = {
     },
     "surveys": {"survey": ["layout"]},
     "meetings": {"first_meeting": ["layout", "thrown", "one", "other", "steps"]},
+    "exchanges": {"exchange_steps": ["layout", "one", "other"], "exchange_plan": ["layout", "one", "other"]},
+    "blocks": {"are_blocks": ["layout", "blocks"], "block_of": ["blocks", "piece"]},
+    "floorlogs": {"replay_floor": ["text"]},
+    "journal": {"replay": ["layout", "text"]},
 }
 
 CLASSES = {
@@ -61,6 +65,24 @@ CLASSES = {
         "Layout": {
             "__init__": [], "place": ["kind", "pose"], "lay": ["pose", "row"], "remove": ["number"], "undo": [], "layout": [],
             "ends": [], "joined": ["number", "end"], "open_ends": [], "islands": [], "is_shut": [],
+        },
+    },
+    "runs": {
+        "Run": {
+            "__init__": ["layout"], "add": ["train"], "toggle": ["number"], "tick": [], "undo": [], "branch": [], "trains": [],
+            "thrown": [], "clock": [], "forecast": ["most"], "journal": [],
+        },
+    },
+    "blocks": {
+        "BlockRun": {
+            "__init__": ["layout", "blocks"], "add": ["train"], "toggle": ["number"], "undo": [], "trains": [], "thrown": [],
+            "clock": [], "tick": [], "is_stuck": [],
+        },
+    },
+    "floorlogs": {
+        "FloorLog": {
+            "__init__": [], "place": ["kind", "pose"], "lay": ["pose", "row"], "remove": ["number"], "undo": [], "layout": [],
+            "journal": [],
         },
     },
 }
