@@ -5,7 +5,7 @@ from railshut.meetings import first_meeting
 from tests.floors import along, some_layouts
 from tests.model import HOME
 from tests.tracks import (
-    BALLOON, DUMBBELL, EIGHT, FAR_BALLOON, OVAL, RING, ROUND, SIDING, TRACKS, TWO_SIDINGS, UNEVEN, WYE, all_trains, choices, ladder,
+    BALLOON, CROSSED, DUMBBELL, EIGHT, FAR_BALLOON, OVAL, RING, ROUND, SIDING, TRACKS, TWO_SIDINGS, UNEVEN, WYE, all_trains, choices, ladder,
     some_pairs, stepped,
 )
 from tests.variants import variants
@@ -105,6 +105,14 @@ class FirstMeeting(unittest.TestCase):
                     self.assertEqual(told, meeting_by_steps(layout, thrown, one, other, 30), (layout, thrown, one, other))
                     met.add(told)
         self.assertGreater(len(met), 8)
+
+    def test_behind_several_rounds(self):
+        # They come to a crossing at the same time only in the fifth and the seventh round.
+        self.assertEqual(first_meeting(CROSSED, (), (2, 0, 1), (17, 1, 0), 200), 69)
+        self.assertEqual(first_meeting(CROSSED, (), (2, 0, 1), (17, 1, 0), 69), 69)
+        self.assertIsNone(first_meeting(CROSSED, (), (2, 0, 1), (17, 1, 0), 68))
+        for one, other in some_pairs(CROSSED, 150):
+            self.assertEqual(first_meeting(CROSSED, (), one, other, 200), meeting_by_steps(CROSSED, (), one, other, 200))
 
     def test_the_bound(self):
         layout = RING + FAR_RING + (("S", (0, 0, 90, 0, 0)),)

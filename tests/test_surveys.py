@@ -2,7 +2,7 @@ import unittest
 
 from railshut.errors import BadPiece
 from railshut.surveys import survey
-from tests.floors import some_layouts
+from tests.floors import along, some_layouts
 from tests.model import HOME
 from tests.tracks import (
     BALLOON, DUMBBELL, EIGHT, FAR_BALLOON, OVAL, RING, ROUND, SIDING, TRACKS, TWO_SIDINGS, UNEVEN, WYE, all_trains, choices, ladder,
@@ -69,6 +69,9 @@ class Survey(unittest.TestCase):
     def test_unlike_cycles_of_one_length_are_each_told(self):
         for layout, expected in (
             (RING + put_far(RING), (8, 8, 8, 8)), (RING + put_far(EIGHT[:9]), (8, 8)), (put_far(ROUND) + RING + (None,), (8, 8, 8)),
+            # The short ones ahead, whichever trains they have.
+            (along(HOME, "LLLLSLLLLS") + put_far(RING), (8, 8, 10, 10)), (put_far(RING) + along(HOME, "LLLLSLLLLS"), (8, 8, 10, 10)),
+            (along(HOME, "LLLSLLLLSL") + put_far(ROUND), (8, 10, 10)),
         ):
             self.assertEqual(survey(layout)[0][2], expected)
 

@@ -6,13 +6,13 @@ from railshut.errors import BadTrain
 from railshut.toggles import leading, least_toggles
 from tests.floors import some_layouts
 from tests.tracks import (
-    BALLOON, DUMBBELL, EIGHT, FAR_BALLOON, OVAL, RING, ROUND, SIDING, TRACKS, TWO_SIDINGS, UNEVEN, WYE, all_trains, choices,
-    free, ladder, ring_of_turnouts, some_pairs, stepped, turnouts,
+    BALLOON, DUMBBELL, EIGHT, FAR_BALLOON, OVAL, RING, ROUND, SIDING, SLOPE, TRACKS, TWO_SIDINGS, UNEVEN, WYE, all_trains,
+    choices, free, ladder, ring_of_turnouts, some_pairs, stepped, turnouts,
 )
 from tests.variants import under_other_numbers, variants
 
 SOME = (
-    RING, ROUND, BALLOON, SIDING, EIGHT, DUMBBELL, WYE, OVAL, FAR_BALLOON, ladder(3), ring_of_turnouts(3), TWO_SIDINGS, UNEVEN, (), TRACKS["a row"],
+    RING, ROUND, BALLOON, SIDING, EIGHT, DUMBBELL, WYE, OVAL, FAR_BALLOON, ladder(3), ring_of_turnouts(3), TWO_SIDINGS, UNEVEN, SLOPE, (), TRACKS["a row"],
     UNEVEN + (("S", (-2, 0, 0, 0, 0)),),
 ) + tuple(some_layouts(6, seed=61)) + tuple(under_other_numbers(ladder(3), seed)[0] for seed in range(2))
 NO_TRAINS = ((0, 1, 2), (0, 0, 3), (1, 1, 1), (99, 0, 1), (-1, 0, 1), (0, 0, 0))
@@ -106,6 +106,14 @@ class Leading(unittest.TestCase):
         layout = ladder(3)
         self.assertEqual(leading(layout, (2,), (8, 0, 1), (6, 0, 1)), ("step",) * 5)
         self.assertEqual(leading(layout, (2,), (8, 0, 1), (5, 1, 0)), (0,) + ("step",) * 4)
+
+    def test_of_as_few_toggles_the_fewest_steps(self):
+        # By the first rung it is a toggle, too, and one that would be told ahead of a step, but it is a step more.
+        self.assertEqual(leading(SLOPE, (), (8, 0, 1), (7, 0, 1)), ("step", "step", 2, "step", "step", "step"))
+        self.assertEqual(leading(SLOPE, (0,), (8, 0, 1), (7, 0, 1)), ("step",) * 6)
+        self.assertEqual(leading(SLOPE, (2,), (8, 0, 1), (7, 0, 1)), ("step",) * 5)
+        self.assertEqual(leading(SLOPE, (0, 2), (8, 0, 1), (7, 0, 1)), ("step",) * 6)
+        self.assertEqual(leading(SLOPE, (), (8, 0, 1), (5, 0, 1)), (0,) + ("step",) * 4)
 
     def test_from_a_train_to_itself(self):
         for layout in SOME:

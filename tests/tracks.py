@@ -39,6 +39,11 @@ UNEVEN = (("P", HOME),) + along((2, 0, 0, 0, 0), "HHRLLR") + along((0, 0, 2, -2,
 # One crossing and two loops.
 EIGHT = (("X", HOME),) + along((2, 0, 0, 0, 0), "HLLLLLLH") + along((1, 0, -1, 0, 6), "HRRRRRRH")
 
+# Two ovals of 14 and of 10 pieces that share two crossings.
+CROSSED = (("X", (-3, 0, 0, 0, 0)), ("X", (1, 0, 0, 0, 0)), ("S", (-1, 0, 0, 0, 0))) + along((3, 0, 0, 0, 0), "LLLLSSSLLLL") + (
+    along((2, 0, 1, 0, 2), "LLLL") + along((-2, 0, -1, 0, 6), "LLLL")
+)
+
 # A siding with a balloon at its far end, and gaps among the numbers.
 FAR_BALLOON = (None,) + SIDING[:5] + (None, None) + SIDING[5:] + (("X", siding(HOME)[1]),)
 
@@ -70,6 +75,12 @@ def ladder(rungs):
     return mains + along(lead_by_steps(HOME, "L"), "R") + merges + (("S", across[-1]), ("S", on[-1]), ("S", on[0]))
 
 
+# A ladder of two rungs, of which the first one has more pieces; and the straight behind its end is the piece 7.
+SLOPE = (("P", HOME), ("S", (2, 0, 0, 0, 0)), ("P", (4, 0, 0, 0, 0))) + along((0, 0, 2, -2, 1), "RHH") + (
+    ("P", facing(lead_by_steps(HOME, "LRSS"))), ("S", lead_by_steps(HOME, "LRSS")), ("S", (-2, 0, 0, 0, 0)),
+)
+
+
 def ring_of_turnouts(many, pose=HOME):
     """A ring, the first pieces of which are turnouts whose branches go round."""
     ring = along(pose, "LLLLLLLL")
@@ -78,7 +89,7 @@ def ring_of_turnouts(many, pose=HOME):
 
 TRACKS = {
     "ring": RING, "round": ROUND, "balloon": BALLOON, "siding": SIDING, "two sidings": TWO_SIDINGS, "eight": EIGHT,
-    "dumbbell": DUMBBELL, "oval": OVAL, "wye": WYE, "uneven": UNEVEN, "ladder": ladder(3), "ring of turnouts": ring_of_turnouts(4),
+    "dumbbell": DUMBBELL, "oval": OVAL, "wye": WYE, "uneven": UNEVEN, "slope": SLOPE, "crossed": CROSSED, "ladder": ladder(3), "ring of turnouts": ring_of_turnouts(4),
     "with gaps": FAR_BALLOON, "a row": along((4, -1, 3, 0, 5), "SLRH"), "nothing": (), "only gaps": (None, None),
 }
 
