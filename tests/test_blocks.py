@@ -8,12 +8,12 @@ from tests.floors import along, some_layouts
 from tests.model import HOME
 from tests.told_runs import ToldRun, led, some_deeds, told_of
 from tests.tracks import (
-    BALLOON, DUMBBELL, EIGHT, FAR_BALLOON, OVAL, RING, ROUND, SIDING, TRACKS, TWO_SIDINGS, UNEVEN, WYE, all_trains, choices, free, ladder,
-    ring_of_turnouts, stepped, turnouts,
+    BALLOON, DUMBBELL, EIGHT, FAR_BALLOON, OVAL, RING, ROUND, SIDING, TRACKS, TWO_SIDINGS, UNEVEN, WYE, all_trains,
+    choices, free, grown_layouts, ladder, ring_of_turnouts, stepped, turnouts,
 )
 from tests.variants import variants
 
-SOME = tuple(TRACKS.values()) + tuple(some_layouts(12, seed=149)) + (ladder(10),)
+SOME = tuple(TRACKS.values()) + tuple(some_layouts(12, seed=149)) + grown_layouts(8, 17, 18) + (ladder(10),)
 ROW = along(HOME, "SSSSSS")
 
 

@@ -6,8 +6,8 @@ from railshut.exchanges import exchange_plan, exchange_steps
 from tests.floors import along, some_layouts
 from tests.model import HOME
 from tests.tracks import (
-    BALLOON, DUMBBELL, EIGHT, FAR_BALLOON, OVAL, RING, ROUND, SIDING, TRACKS, TWO_SIDINGS, UNEVEN, WYE, all_trains, faced, free, ladder,
-    ring_of_turnouts, siding, some_pairs,
+    BALLOON, DUMBBELL, EIGHT, FAR_BALLOON, OVAL, RING, ROUND, SIDING, TRACKS, TWO_SIDINGS, UNEVEN, WYE, all_trains,
+    faced, free, grown_layouts, ladder, ring_of_turnouts, siding, some_pairs,
 )
 from tests.variants import variants
 
@@ -15,7 +15,7 @@ from tests.variants import variants
 STATION = SIDING + (("S", (-2, 0, 0, 0, 0)), ("S", siding(HOME)[1]))
 SPUR = along(HOME, "SS") + (("P", (4, 0, 0, 0, 0)), ("S", (6, 0, 0, 0, 0)), ("C", (4, 0, 2, -2, 1)))
 SOME = (RING, ROUND, BALLOON, SIDING, EIGHT, WYE, UNEVEN, SPUR, FAR_BALLOON, ladder(2), ladder(3), ring_of_turnouts(3), TRACKS["a row"]) + tuple(
-    some_layouts(12, seed=97))
+    some_layouts(12, seed=97)) + grown_layouts(10, 13)
 
 
 def exchange_by_search(layout, one, other):

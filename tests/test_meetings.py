@@ -5,12 +5,12 @@ from railshut.meetings import first_meeting
 from tests.floors import along, some_layouts
 from tests.model import HOME
 from tests.tracks import (
-    BALLOON, CROSSED, DUMBBELL, EIGHT, FAR_BALLOON, OVAL, RING, ROUND, SIDING, TRACKS, TWO_SIDINGS, UNEVEN, WYE, all_trains, choices, ladder,
-    some_pairs, stepped,
+    BALLOON, CROSSED, DUMBBELL, EIGHT, FAR_BALLOON, OVAL, RING, ROUND, SIDING, TRACKS, TWO_SIDINGS, UNEVEN, WYE,
+    all_trains, choices, grown_layouts, ladder, some_pairs, stepped,
 )
 from tests.variants import variants
 
-SOME = tuple(TRACKS.values()) + tuple(some_layouts(20, seed=83))
+SOME = tuple(TRACKS.values()) + tuple(some_layouts(20, seed=83)) + grown_layouts(10, 11)
 ROW = along(HOME, "SLRHSS")
 
 

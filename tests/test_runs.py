@@ -6,12 +6,12 @@ from tests.floors import along, some_layouts
 from tests.model import HOME
 from tests.told_runs import ToldRun, led, some_deeds, told_of
 from tests.tracks import (
-    BALLOON, DUMBBELL, EIGHT, FAR_BALLOON, OVAL, RING, ROUND, SIDING, TRACKS, TWO_SIDINGS, UNEVEN, WYE, all_trains, ladder,
-    ring_of_turnouts,
+    BALLOON, DUMBBELL, EIGHT, FAR_BALLOON, OVAL, RING, ROUND, SIDING, TRACKS, TWO_SIDINGS, UNEVEN, WYE, all_trains,
+    grown_layouts, ladder, ring_of_turnouts,
 )
 from tests.variants import variants
 
-SOME = tuple(TRACKS.values()) + tuple(some_layouts(12, seed=101)) + (ladder(10),)
+SOME = tuple(TRACKS.values()) + tuple(some_layouts(12, seed=101)) + grown_layouts(12, 15) + (ladder(10),)
 
 
 def run_with(layout, *trains, thrown=()):

@@ -6,14 +6,14 @@ from railshut.settings import least_setting
 from tests.floors import some_layouts
 from tests.model import HOME
 from tests.tracks import (
-    BALLOON, DUMBBELL, EIGHT, FAR_BALLOON, OVAL, RING, ROUND, SIDING, TRACKS, TWO_SIDINGS, UNEVEN, WYE, all_trains, choices, ladder,
-    ring_of_turnouts, some_pairs, stepped, trains_reached, turnouts,
+    BALLOON, DUMBBELL, EIGHT, FAR_BALLOON, OVAL, RING, ROUND, SIDING, TRACKS, TWO_SIDINGS, UNEVEN, WYE, all_trains,
+    choices, grown_layouts, ladder, ring_of_turnouts, some_pairs, stepped, trains_reached, turnouts,
 )
 from tests.variants import under_other_numbers, variants
 
 # A ladder whose turnouts have their numbers in another order, so that the least of several settings lies elsewhere.
 MIXED = tuple(under_other_numbers(ladder(4), seed)[0] for seed in range(6))
-SOME = tuple(TRACKS.values()) + tuple(some_layouts(10, seed=53)) + MIXED
+SOME = tuple(TRACKS.values()) + tuple(some_layouts(10, seed=53)) + grown_layouts(10, 5) + MIXED
 NO_TRAINS = ((0, 1, 2), (0, 0, 3), (1, 1, 1), (99, 0, 1), (-1, 0, 1), (0, 0, 0))
 
 

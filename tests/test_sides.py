@@ -6,12 +6,12 @@ from railshut.sides import judge_sides, make_sides
 from tests.floors import along, some_layouts
 from tests.model import HOME
 from tests.tracks import (
-    BALLOON, DUMBBELL, EIGHT, FAR_BALLOON, OVAL, RING, ROUND, SIDING, TRACKS, TWO_SIDINGS, WYE, all_trains, faced, free, ladder,
-    ring_of_turnouts, sets_that_hang_together,
+    BALLOON, DUMBBELL, EIGHT, FAR_BALLOON, OVAL, RING, ROUND, SIDING, TRACKS, TWO_SIDINGS, WYE, all_trains, faced,
+    free, grown_layouts, ladder, ring_of_turnouts, sets_that_hang_together,
 )
 from tests.variants import variants
 
-SOME = tuple(TRACKS.values()) + tuple(some_layouts(25, seed=41)) + (ladder(10), ring_of_turnouts(8))
+SOME = tuple(TRACKS.values()) + tuple(some_layouts(25, seed=41)) + grown_layouts(25, 3) + (ladder(10), ring_of_turnouts(8))
 
 # So small that all choices of a way for each of their trains can be tried.
 SMALL = (

@@ -5,12 +5,12 @@ from railshut.surveys import survey
 from tests.floors import along, some_layouts
 from tests.model import HOME
 from tests.tracks import (
-    BALLOON, DUMBBELL, EIGHT, FAR_BALLOON, OVAL, RING, ROUND, SIDING, TRACKS, TWO_SIDINGS, UNEVEN, WYE, all_trains, choices, ladder,
-    ring_of_turnouts, stepped, turnouts,
+    BALLOON, DUMBBELL, EIGHT, FAR_BALLOON, OVAL, RING, ROUND, SIDING, TRACKS, TWO_SIDINGS, UNEVEN, WYE, all_trains,
+    choices, grown_layouts, ladder, ring_of_turnouts, stepped, turnouts,
 )
 from tests.variants import variants
 
-SOME = tuple(layout for layout in tuple(TRACKS.values()) + tuple(some_layouts(30, seed=71)) if len(turnouts(layout)) <= 5)
+SOME = tuple(layout for layout in tuple(TRACKS.values()) + tuple(some_layouts(30, seed=71)) + grown_layouts(20, 9) if len(turnouts(layout)) <= 5)
 
 
 def row_by_trial(layout, thrown):

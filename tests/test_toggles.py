@@ -6,15 +6,15 @@ from railshut.errors import BadTrain
 from railshut.toggles import leading, least_toggles
 from tests.floors import some_layouts
 from tests.tracks import (
-    BALLOON, DUMBBELL, EIGHT, FAR_BALLOON, OVAL, RING, ROUND, SIDING, SLOPE, TRACKS, TWO_SIDINGS, UNEVEN, WYE, all_trains,
-    choices, free, ladder, ring_of_turnouts, some_pairs, stepped, turnouts,
+    BALLOON, DUMBBELL, EIGHT, FAR_BALLOON, OVAL, RING, ROUND, SIDING, SLOPE, TRACKS, TWO_SIDINGS, UNEVEN, WYE,
+    all_trains, choices, free, grown_layouts, ladder, ring_of_turnouts, some_pairs, stepped, turnouts,
 )
 from tests.variants import under_other_numbers, variants
 
 SOME = (
     RING, ROUND, BALLOON, SIDING, EIGHT, DUMBBELL, WYE, OVAL, FAR_BALLOON, ladder(3), ring_of_turnouts(3), TWO_SIDINGS, UNEVEN, SLOPE, (), TRACKS["a row"],
     UNEVEN + (("S", (-2, 0, 0, 0, 0)),),
-) + tuple(some_layouts(6, seed=61)) + tuple(under_other_numbers(ladder(3), seed)[0] for seed in range(2))
+) + tuple(some_layouts(6, seed=61)) + grown_layouts(8, 7, 16) + tuple(under_other_numbers(ladder(3), seed)[0] for seed in range(2))
 NO_TRAINS = ((0, 1, 2), (0, 0, 3), (1, 1, 1), (99, 0, 1), (-1, 0, 1), (0, 0, 0))
 
 

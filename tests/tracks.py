@@ -4,8 +4,8 @@ import functools
 import itertools
 import random
 
-from tests.floors import all_ends, along, facing, piece_ends
-from tests.model import HOME, lead_by_steps
+from tests.floors import all_ends, along, facing, joints, piece_ends, seen_by_steps, why_not
+from tests.model import AT_HOME, HOME, all_rows, laid_by_steps, lead_by_steps
 
 PASSES = {
     "S": ((0, 1), (1, 0)), "H": ((0, 1), (1, 0)), "C": ((0, 1), (1, 0)), "P": ((0, 1), (0, 2), (1, 0), (2, 0)),
@@ -92,6 +92,48 @@ TRACKS = {
     "dumbbell": DUMBBELL, "oval": OVAL, "wye": WYE, "uneven": UNEVEN, "slope": SLOPE, "crossed": CROSSED, "ladder": ladder(3), "ring of turnouts": ring_of_turnouts(4),
     "with gaps": FAR_BALLOON, "a row": along((4, -1, 3, 0, 5), "SLRH"), "nothing": (), "only gaps": (None, None),
 }
+
+
+@functools.lru_cache(maxsize=None)
+def rows_by_lead():
+    """For each pose the first one of the rows with the fewest letters that lead to it from home, of those of at most six."""
+    found = {}
+    for row in all_rows(6):
+        found.setdefault(lead_by_steps(HOME, row), row)
+    return found
+
+
+def grown(pick, most):
+    """A layout grown at its open ends, two of which are often joined by a row where there is one."""
+    layout = (("P", HOME),)
+    for _ in range(3 * most):
+        joined = joints(layout)
+        opens = [pose for number, end, pose in all_ends(layout) if (number, end) not in joined] or [HOME]
+        pairs = [(one, rows_by_lead().get(seen_by_steps(one, facing(other)))) for one in opens for other in opens]
+        rows = [(one, row) for one, row in pairs if row]
+        if rows and (len(layout) > most // 2 or pick.random() < 0.5):
+            pieces = along(*pick.choice(rows))
+        elif len(layout) > most // 2:
+            break
+        else:
+            kind = pick.choice("SHCPQPQX")
+            end = facing(pick.choice(AT_HOME[kind]))
+            pieces = ((kind, laid_by_steps(pick.choice(opens), seen_by_steps(end, HOME))),)
+        if len(layout) + len(pieces) <= most and why_not(layout, pieces) is None:
+            layout = layout + pieces
+    return tuple(pick.sample(layout, len(layout)))
+
+
+@functools.lru_cache(maxsize=None)
+def grown_layouts(many, seed, most=22):
+    """Layouts with turnouts and ways round, in any order of their pieces, the same ones each time."""
+    pick = random.Random(seed)
+    found = []
+    while len(found) < many:
+        layout = grown(pick, pick.randint(12, most))
+        if len(joints(layout)) // 2 >= len(layout):
+            found.append(layout)
+    return tuple(found)
 
 
 @functools.lru_cache(maxsize=None)
