@@ -13,7 +13,7 @@ class Traffic:
     def __init__(self, layout):
         self.table = steps_table(layout)
         self._turnouts = turnouts_in(layout)
-        # All of these are replaced, never changed: so the past can keep them as they were.
+        # These three are replaced, never changed: so the past can keep them as they were.
         self.running = ()
         self.switched = ()
         self.ticks = 0
